@@ -1,0 +1,1 @@
+"""Turnless: problems of clauses, all their turns, and answers of which none is a turn of another."""

@@ -1,0 +1,48 @@
+"""What is asked of things of any kind: whether they are numbers, lists, letters, clauses, worths."""
+
+
+def is_number(thing):
+    """Whether it is a whole number; True and False are none."""
+    # Asked of the very kind, as a kind made from int may tell anything of itself.
+    return type(thing) == int
+
+
+def is_list(thing):
+    """Whether it may stand where a list is handed in."""
+    return type(thing) in (list, tuple)
+
+
+def is_letter(thing, many):
+    """Whether it is a letter of one of so many truths."""
+    return is_number(thing) and 1 <= abs(thing) <= many
+
+
+def clause_of(thing, many):
+    """The clause of a list of letters in any order, also twice; None of anything else."""
+    if not is_list(thing):
+        return None
+    letters = {}
+    for letter in thing:
+        # First whether it is one, as only then it surely can be a key.
+        if not is_letter(letter, many) or -letter in letters:
+            return None
+        letters[letter] = True
+    return tuple(sorted(list(letters), key=abs))
+
+
+def is_worths(thing, many):
+    """Whether it is a tuple of 0 and 1, one for each of so many truths."""
+    if type(thing) != tuple or len(thing) != many:
+        return False
+    return all([is_number(worth) and worth in (0, 1) for worth in thing])
+
+
+def letter_holds(letter, worths):
+    """Whether the letter holds by these worths."""
+    worth = worths[abs(letter) - 1]
+    return worth == 1 if letter > 0 else worth == 0
+
+
+def clause_holds(clause, worths):
+    """Whether one letter of the clause holds by these worths."""
+    return any([letter_holds(letter, worths) for letter in clause])
