@@ -1,4 +1,4 @@
-"""What is asked of things of any kind: whether they are numbers, lists, letters, clauses, worths."""
+"""Letters, and what is asked of things of any kind: whether they are numbers, lists, letters, clauses, worths."""
 
 
 def is_number(thing):
@@ -28,6 +28,12 @@ def clause_of(thing, many):
             return None
         letters[letter] = True
     return tuple(sorted(list(letters), key=abs))
+
+
+def letters_beside(used, many):
+    """The rising list of the letters of so many truths, but of those that are used."""
+    truths = [truth for truth in range(1, many + 1) if truth not in used]
+    return [-truth for truth in truths[::-1]] + truths
 
 
 def is_worths(thing, many):
