@@ -26,6 +26,10 @@ INTERFACE = {
     "groups": (["Group"], []),
     "finding": (["all_turns", "alike", "shown", "formed"], []),
     "trees": (["shows_parted", "shows_all"], []),
+    "breaking": (["lesser", "broken", "left", "kept"], []),
+    "judging": (["Judge", "lets_by"], []),
+    "solving": (["solved", "checked", "forced"], ["PLAIN", "WAYS"]),
+    "kinds": (["least", "kinds", "unmoved", "by_unmoved", "stayers"], []),
 }
 
 # By which names, and in which order, each takes its arguments.
@@ -39,6 +43,18 @@ ARGUMENTS = {
     },
     "finding": {"all_turns": "(problem)", "alike": "(one, other)", "shown": "(problem)", "formed": "(problem)"},
     "trees": {"shows_parted": "(one, other, tree)", "shows_all": "(problem, group, paper)"},
+    "breaking": {
+        "lesser": "(turn, first, *, order=None)", "broken": "(problem, turns, *, order=None)",
+        "left": "(problem, turns, *, order=None)", "kept": "(problem, turns, *, order=None)",
+    },
+    "judging": {"lets_by": "(problem, log)"},
+    "solving": {
+        "solved": "(problem, *, way='plain', group=None)", "checked": "(problem, told)", "forced": "(problem, part)",
+    },
+    "kinds": {
+        "least": "(group, answer)", "kinds": "(problem, group)", "unmoved": "(problem, turn)",
+        "by_unmoved": "(problem, group, *, most=1000)", "stayers": "(group, answer)",
+    },
 }
 
 # The same of each class, whose methods stand in its own body.
@@ -48,6 +64,10 @@ METHODS = {
         "__init__": "(self, many, makers=(), *, base=())", "__eq__": "(self, other)", "truths": "(self)", "makers": "(self)",
         "base": "(self)", "floors": "(self)", "size": "(self)", "has": "(self, thing)", "factors": "(self, turn)",
         "orbit": "(self, letter)", "orbits": "(self)", "leaving": "(self, letters)", "turns": "(self, *, most=1000)",
+    },
+    ("judging", "Judge"): {
+        "__init__": "(self, problem)", "read": "(self, step)", "read_all": "(self, log)", "standing": "(self)",
+        "steps": "(self)", "truths": "(self)", "ended": "(self)", "tries": "(self)",
     },
 }
 
@@ -180,6 +200,23 @@ class Language(unittest.TestCase):
             given = {node.id for node in ast.walk(tree) if isinstance(node, ast.Name) and isinstance(node.ctx, ast.Store)}
             given |= {node.arg for node in ast.walk(tree) if isinstance(node, ast.arg)}
             self.assertEqual(taken & given, set(), name)
+
+    def test_no_generator_expressions(self):
+        # Where a class has __eq__, as here, any, all, sorted and the like take a list.
+        self.assertEqual([(name, node.lineno) for name, node in self.nodes(ast.GeneratorExp, ast.Yield, ast.YieldFrom)], [])
+        sorts = [(name, node.lineno) for name, node in self.nodes(ast.Attribute) if node.attr == "sort"]
+        self.assertEqual(sorts, [])
+
+    def test_no_files_import_from_each_other(self):
+        wanted = {name: {f"{node.module.split('.')[1]}.py" for node in ast.walk(tree)
+                         if isinstance(node, ast.ImportFrom) and node.module.startswith("turnless.")}
+                  for name, tree in self.trees.items()}
+        while wanted:
+            # Those that import from none that is left go; where there are none such, files import in a round.
+            free = [name for name in wanted if not wanted[name] & set(wanted)]
+            self.assertNotEqual(free, [], sorted(wanted))
+            for name in free:
+                del wanted[name]
 
     def test_no_name_is_a_method_and_an_attribute_of_a_class(self):
         for name, kind in self.nodes(ast.ClassDef):

@@ -1,9 +1,9 @@
 """All turns of a problem, turns from one problem to another or trees that show that there are none, and least forms."""
 
-from turnless.errors import TooMany
 from turnless.groups import MOST_TRUTHS, Group, orbit_of
 from turnless.letters import letters_beside
 from turnless.problems import Problem
+from turnless.refusals import refuse_more
 from turnless.trees import gaps
 from turnless.turns import clause_goes, goes, led_back, table_of
 
@@ -16,7 +16,7 @@ _SIZES = 16
 
 def all_turns(problem):
     """The group of all turns that fit the problem."""
-    _refuse_more(problem, MOST_TRUTHS)
+    refuse_more(problem, MOST_TRUTHS)
     search = Search(problem, problem)
     makers = []
     for truth in range(problem.many, 0, -1):
@@ -43,8 +43,8 @@ def _turns_moving(truth, makers, search):
 
 def alike(one, other):
     """A turn that leads one to other, or a tree that shows that there is none."""
-    _refuse_more(one, MOST_TRUTHS)
-    _refuse_more(other, MOST_TRUTHS)
+    refuse_more(one, MOST_TRUTHS)
+    refuse_more(other, MOST_TRUTHS)
     if one.many != other.many:
         return "parted", ("many",)
     return Search(one, other).settled({})
@@ -62,7 +62,7 @@ def shown(problem):
 
 def formed(problem):
     """The least problem to which a turn leads this one, and such a turn."""
-    _refuse_more(problem, _MOST_FORMED)
+    refuse_more(problem, _MOST_FORMED)
     turn = _least_way(problem, _unlike_ways(all_turns(problem)))
     return Problem(problem.many, [clause_goes(turn, clause) for clause in problem.clauses]), turn
 
@@ -130,11 +130,6 @@ def _clauses_of_size(many, size):
 
 def _is_next(start, letter):
     return len(start) == 0 or abs(letter) > abs(start[-1])
-
-
-def _refuse_more(problem, most):
-    if problem.many > most:
-        raise TooMany(f"the problem has more truths than {most}")
 
 
 class Search:

@@ -45,10 +45,7 @@ class Group:
 
     def size(self):
         """How many turns there are."""
-        size = 1
-        for goals in self._chain.goals:
-            size = size * len(goals)
-        return size
+        return self._chain.size()
 
     def has(self, thing):
         """Whether the thing, of any kind, is one of the turns."""
@@ -112,6 +109,13 @@ class Chain:
         self.goals = [{letter: still(len(letters))} for letter in letters]
         self.ways_back = [{letter: table_of(still(len(letters)))} for letter in letters]
         self._made_by = [[] for letter in letters]
+
+    def size(self):
+        """How many turns there are."""
+        size = 1
+        for goals in self.goals:
+            size = size * len(goals)
+        return size
 
     def makers_of(self, at):
         """Turns whose products are all that leave the letters ahead of place at."""

@@ -1,4 +1,4 @@
-"""Letters, and what is asked of things of any kind: whether they are numbers, lists, letters, clauses, worths."""
+"""Letters, and what is asked of things of any kind: whether they are numbers, lists, letters, clauses, parts."""
 
 
 def is_number(thing):
@@ -10,6 +10,13 @@ def is_number(thing):
 def is_list(thing):
     """Whether it may stand where a list is handed in."""
     return type(thing) in (list, tuple)
+
+
+def word_of(thing):
+    """The word with which a tuple begins, None where there is none."""
+    if type(thing) != tuple or len(thing) == 0 or type(thing[0]) != str:
+        return None
+    return thing[0]
 
 
 def is_letter(thing, many):
@@ -30,6 +37,19 @@ def clause_of(thing, many):
     return tuple(sorted(list(letters), key=abs))
 
 
+def is_clause(thing, many):
+    """Whether it is a clause over so many truths: a tuple, rising by truths."""
+    # Where there is a clause of it, all in it are letters, so nothing else is compared.
+    return type(thing) == tuple and clause_of(thing, many) == thing
+
+
+def is_part(thing, many):
+    """Whether it is a tuple of letters of unlike truths, in any order."""
+    if type(thing) != tuple or not all([is_letter(letter, many) for letter in thing]):
+        return False
+    return len({abs(letter) for letter in thing}) == len(thing)
+
+
 def letters_beside(used, many):
     """The rising list of the letters of so many truths, but of those that are used."""
     truths = [truth for truth in range(1, many + 1) if truth not in used]
@@ -41,6 +61,11 @@ def is_worths(thing, many):
     if type(thing) != tuple or len(thing) != many:
         return False
     return all([is_number(worth) and worth in (0, 1) for worth in thing])
+
+
+def worth_table(worths):
+    """Whether each letter holds by these worths, 1 or 0, with the letter as the index, -1 being the last place."""
+    return (0,) + worths + tuple([1 - worth for worth in worths[::-1]])
 
 
 def letter_holds(letter, worths):

@@ -1,6 +1,6 @@
 """Trees that show of two problems that no turn leads one to the other: small judges read them, who know no groups."""
 
-from turnless.letters import clause_of, is_letter, is_number, letters_beside
+from turnless.letters import is_clause, is_letter, is_number, letters_beside, word_of
 from turnless.turns import fits
 
 
@@ -64,7 +64,7 @@ class Reader:
     def is_tree(self, tree, known):
         """Whether the tree, of any kind, is one for the letters to which the known truths go."""
         if not self._as_many:
-            return _word_of(tree) == "many" and len(tree) == 1
+            return word_of(tree) == "many" and len(tree) == 1
         # By a list, as a tree may be far deeper than calls may be; what is known is joined late, as many trees wait.
         left = [(tree, known, {})]
         while left:
@@ -78,7 +78,7 @@ class Reader:
 
     def _is_ask(self, tree, known):
         """Whether it is an ask, whatever its trees are."""
-        if _word_of(tree) != "ask" or len(tree) != 3:
+        if word_of(tree) != "ask" or len(tree) != 3:
             return False
         truth, trees = tree[1], tree[2]
         if not is_number(truth) or not 1 <= truth <= self._many or truth in known or type(trees) != dict:
@@ -91,17 +91,15 @@ class Reader:
 
     def _is_count(self, tree, known):
         """Whether it is a count by which one and other differ."""
-        if _word_of(tree) != "count" or len(tree) != 3:
+        if word_of(tree) != "count" or len(tree) != 3:
             return False
         letters, size = tree[1], tree[2]
-        if not is_number(size) or not self._is_clause(letters) or not all([abs(letter) in known for letter in letters]):
+        if not is_number(size) or not is_clause(letters, self._many):
+            return False
+        if not all([abs(letter) in known for letter in letters]):
             return False
         goals = [known[letter] if letter > 0 else -known[-letter] for letter in letters]
         return self._ones.how_many(letters, size) != self._others.how_many(goals, size)
-
-    def _is_clause(self, thing):
-        # Where there is a clause of it, all in it are letters, so nothing else is compared.
-        return type(thing) == tuple and clause_of(thing, self._many) == thing
 
 
 class Counts:
@@ -123,10 +121,3 @@ class Counts:
             bits = bits & self._of_letter.get(letter, 0)
         word = f"{bits:b}"
         return word.count("1")
-
-
-def _word_of(tree):
-    """The word with which a tree begins, None where there is none."""
-    if type(tree) != tuple or len(tree) == 0 or type(tree[0]) != str:
-        return None
-    return tree[0]

@@ -21,25 +21,25 @@ def still(many):
 
 def of_letter(turn, letter):
     """The letter to which the letter goes."""
-    _refuse_no_turn(turn)
+    refuse_no_turn(turn)
     return goes(turn, letter)
 
 
 def of_clause(turn, clause):
     """The clause to which the clause goes, rising by truths again."""
-    _refuse_no_turn(turn)
+    refuse_no_turn(turn)
     return clause_goes(turn, clause)
 
 
 def of_part(turn, part):
     """The part to which the part goes, in its order."""
-    _refuse_no_turn(turn)
+    refuse_no_turn(turn)
     return tuple([goes(turn, letter) for letter in part])
 
 
 def of_answer(turn, answer):
     """The answer in which just those letters hold to which those go that hold in this one."""
-    _refuse_no_turn(turn)
+    refuse_no_turn(turn)
     if not is_worths(answer, len(turn)):
         raise NoTurn("the turn is of another number of truths than the answer")
     holding = [goes(turn, k if worth == 1 else -k) for k, worth in enumerate(answer, start=1)]
@@ -48,8 +48,8 @@ def of_answer(turn, answer):
 
 def then(one, other):
     """First one, then other."""
-    _refuse_no_turn(one)
-    _refuse_no_turn(other)
+    refuse_no_turn(one)
+    refuse_no_turn(other)
     if len(one) != len(other):
         raise NoTurn("the turns are of unlike many truths")
     return led_on(one, table_of(other))
@@ -57,7 +57,7 @@ def then(one, other):
 
 def back(turn):
     """The turn that leads back."""
-    _refuse_no_turn(turn)
+    refuse_no_turn(turn)
     return led_back(turn)
 
 
@@ -71,7 +71,7 @@ def order(turn):
 
 def rounds(turn):
     """The list of rounds of letters, each going to the next, the last to the first."""
-    _refuse_no_turn(turn)
+    refuse_no_turn(turn)
     found = []
     seen = {}
     for truth in range(1, len(turn) + 1):
@@ -127,7 +127,8 @@ def _is_many(thing):
     return is_number(thing) and 1 <= thing <= MOST
 
 
-def _refuse_no_turn(thing):
+def refuse_no_turn(thing):
+    """Refuses, of anything, what is no turn of any number of truths."""
     if type(thing) != tuple or not is_turn(thing, len(thing)):
         raise NoTurn("this is no turn")
 
