@@ -30,6 +30,10 @@ INTERFACE = {
     "judging": (["Judge", "lets_by"], []),
     "solving": (["solved", "checked", "forced"], ["PLAIN", "WAYS"]),
     "kinds": (["least", "kinds", "unmoved", "by_unmoved", "stayers"], []),
+    "searching": (["searched", "shows_search"], []),
+    "bench": (["Bench", "bench_of"], []),
+    "logtexts": (["log_text", "read_log"], []),
+    "desk": (["answers_of"], []),
 }
 
 # By which names, and in which order, each takes its arguments.
@@ -55,6 +59,10 @@ ARGUMENTS = {
         "least": "(group, answer)", "kinds": "(problem, group)", "unmoved": "(problem, turn)",
         "by_unmoved": "(problem, group, *, most=1000)", "stayers": "(group, answer)",
     },
+    "searching": {"searched": "(problem, group, *, ask=None)", "shows_search": "(problem, group, told)"},
+    "bench": {"bench_of": "(many, log)"},
+    "logtexts": {"log_text": "(log)", "read_log": "(text)"},
+    "desk": {"answers_of": "(text)"},
 }
 
 # The same of each class, whose methods stand in its own body.
@@ -68,6 +76,11 @@ METHODS = {
     ("judging", "Judge"): {
         "__init__": "(self, problem)", "read": "(self, step)", "read_all": "(self, log)", "standing": "(self)",
         "steps": "(self)", "truths": "(self)", "ended": "(self)", "tries": "(self)",
+    },
+    ("bench", "Bench"): {
+        "__init__": "(self, many, clauses=())", "put": "(self, clause)", "drop": "(self, clause)", "hold": "(self, letter)",
+        "back": "(self)", "again": "(self)", "each": "(self, deeds, *, just=False)", "problem": "(self)", "group": "(self)",
+        "kinds": "(self)", "log": "(self)", "tries": "(self)", "twin": "(self)",
     },
 }
 

@@ -5,7 +5,7 @@ from turnless.letters import clause_holds, clause_of, is_list, is_number, is_wor
 
 MOST = 400
 
-_MOST_CLAUSES = 400
+MOST_CLAUSES = 400
 
 
 class Problem:
@@ -17,8 +17,8 @@ class Problem:
         if not is_list(clauses):
             raise NoClause(0)
         found = _unlike_clauses(clauses, many)
-        if len(found) > _MOST_CLAUSES:
-            raise TooMany(f"a problem has at most {_MOST_CLAUSES} clauses")
+        if len(found) > MOST_CLAUSES:
+            raise TooMany(f"a problem has at most {MOST_CLAUSES} clauses")
         self.many = many
         self.clauses = tuple(sorted(found, key=_by_length))
 
