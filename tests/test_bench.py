@@ -563,13 +563,14 @@ class Rows(Case):
         for many in (1, 2, 2, 3, 3, 3, 4):
             for _ in range(6):
                 bench, plain = Bench(many), PlainBench(many)
-                for _ in range(60):
+                for at in range(60):
                     call = self.some_call(chance, many)
                     told = refusal_of(lambda: call(bench))
                     self.assertEqual(told, refusal_of(lambda: call(plain)))
                     self.assertEqual(told_of(bench), plain.told())
                     seen[told] = seen.get(told, 0) + 1
-                self.assert_like_a_new_one(bench)
+                    if at % 4 == 3:
+                        self.assert_like_a_new_one(bench)
         kinds_of_refusal = {error for error, _ in seen}
         self.assertEqual(kinds_of_refusal, {None, NoClause, NoLetter, NoDeed, NotThere, Twice})
 
